@@ -1,0 +1,1 @@
+"""Bentcoin: exact probabilities for programs that toss a coin of unknown bias."""
