@@ -2,6 +2,7 @@
 
 from math import gcd
 
+from bentcoin.packing import read_coefficients, value_at_power
 from bentcoin.polynomials import divide_exactly, trim_zeros
 
 
@@ -59,25 +60,4 @@ def first_bits(one, other):
 def guess_divisor(one, other, bits):
     """Return the polynomial read off the common divisor of both values at 2^bits."""
     value = gcd(value_at_power(one, bits), value_at_power(other, bits))
-    return primitive_part(read_coefficients(value, bits))
-
-
-def value_at_power(polynomial, bits):
-    """Return the value of the polynomial at 2^bits."""
-    value = 0
-    for c in reversed(polynomial):
-        value = (value << bits) + c
-    return value
-
-
-def read_coefficients(value, bits):
-    """Return the polynomial that has this positive value at 2^bits, coefficients around 0."""
-    base = 1 << bits
-    coefficients = []
-    while value > 0:
-        c = value & (base - 1)
-        if 2 * c >= base:
-            c -= base
-        coefficients.append(c)
-        value = (value - c) >> bits
-    return trim_zeros(coefficients)
+    return primitive_part(trim_zeros(read_coefficients(value, bits)))

@@ -3,6 +3,11 @@
 from itertools import zip_longest
 from math import gcd
 
+from bentcoin.packing import read_coefficients, value_at_power
+
+# From so many products of coefficients on, one product of two large integers is faster.
+PACKED_TERMS = 1000
+
 
 def reduce_fraction(n, d):
     """Return n / d, d not 0, as a fraction in lowest terms with a positive denominator."""
@@ -37,11 +42,27 @@ def scale_polynomial(polynomial, factor):
 
 def multiply_polynomials(one, other):
     """Return the product."""
+    if len(one) * len(other) > PACKED_TERMS:
+        return multiply_packed(one, other)
     total = [0] * (len(one) + len(other))
     for at, a in enumerate(one):
         for k, b in enumerate(other):
             total[at + k] += a * b
     return trim_zeros(total)
+
+
+def multiply_packed(one, other):
+    """Return the product of long polynomials: that of their values at a power of 2, read back."""
+    bits = count_bits(one) + count_bits(other) + min(len(one), len(other)).bit_length() + 1
+    value = value_at_power(one, bits) * value_at_power(other, bits)
+    if value < 0:
+        return scale_polynomial(read_coefficients(-value, bits), -1)
+    return trim_zeros(read_coefficients(value, bits))
+
+
+def count_bits(polynomial):
+    """Return the number of bits of the largest coefficient."""
+    return max([c.bit_length() for c in polynomial])
 
 
 def evaluate_polynomial(polynomial, p):

@@ -35,6 +35,18 @@ def first_nonzero(polynomial):
     return polynomial[at]
 
 
+def rational_degree(rational):
+    """Return the larger degree of numerator and denominator."""
+    return max(len(rational[0]), len(rational[1])) - 1
+
+
+def named_part(rational, which):
+    """Return the numerator ("upper"), the denominator ("lower"), or the latter minus the former."""
+    if which == "rest":
+        return subtract_polynomials(rational[1], rational[0])
+    return rational[0] if which == "upper" else rational[1]
+
+
 def add_rationals(one, other):
     """Return the sum."""
     left = multiply_polynomials(one[0], other[1])

@@ -52,6 +52,14 @@ class Files(unittest.TestCase):
         elif node.module != "__future__":
             self.assertTrue(node.module.startswith("bentcoin."), (name, node.module))
 
+    def test_imported_names_are_used(self):
+        for name, text in self.texts.items():
+            tree = ast.parse(text)
+            used = {node.id for node in ast.walk(tree) if isinstance(node, ast.Name)}
+            for node in ast.walk(tree):
+                if isinstance(node, ast.ImportFrom):
+                    self.assertTrue({alias.name for alias in node.names} <= used, (name, node.lineno))
+
     def test_no_float_and_no_division(self):
         for name, text in self.texts.items():
             for node in ast.walk(ast.parse(text)):

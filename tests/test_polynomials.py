@@ -106,6 +106,19 @@ class Products(Checks):
         self.assertEqual(multiply_polynomials((0, 0, -2), (-3, 0, 1)), (0, 0, 6, 0, -2))
         self.assertEqual(multiply_polynomials((-1,), (5, -6)), (-5, 6))
 
+    def test_long_with_largest_and_smallest_coefficients(self):
+        # From about a thousand products of coefficients on, long polynomials go another way.
+        for one, other in ((31, 32), (32, 32), (41, 41), (1, 1200), (200, 7), (300, 300)):
+            for first in (2 ** 60 - 1, -(2 ** 60 - 1), 1, -1):
+                for second in (2 ** 31 - 1, -1):
+                    pair = ((first,) * one, (second,) * other)
+                    self.assertEqual(multiply_polynomials(*pair), plain_product(*pair))
+        generator = make_generator(5)
+        for sizes in ((33, 33), (41, 60), (100, 11)):
+            pair = [random_polynomial(generator, size, 9) for size in sizes]
+            self.assertEqual(multiply_polynomials(*pair), plain_product(*pair))
+        self.assertEqual(multiply_polynomials((1,) * 2000, ()), ())
+
     def test_largest(self):
         product = multiply_polynomials((BIG,) * 41, (-BIG,) * 41)
         self.assertEqual(len(product), 81)
