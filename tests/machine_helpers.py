@@ -190,3 +190,30 @@ def plain_worths(machine, answer, p):
 
 def at_point(polynomial, p):
     return sum((c * Fraction(*p) ** k for k, c in enumerate(polynomial)), Fraction(0))
+
+
+def make_decision(answers):
+    """Return a machine that ends with the answer of the row of tosses, rows in string order.
+
+    Equal rows of states are made once; a state whose successors are one state is left out.
+    """
+    states, numbers = [], {}
+
+    def build(part):
+        if len(part) == 1:
+            state = ("end", part[0])
+        else:
+            half = len(part) // 2
+            heads, tails = build(part[:half]), build(part[half:])
+            if heads == tails:
+                return heads
+            state = ("toss", heads, tails)
+        if state not in numbers:
+            numbers[state] = len(states)
+            states.append(state)
+        return numbers[state]
+
+    # The first state has to be the one built last.
+    last = build(answers)
+    order = [(last - k) if k <= last else k for k in range(len(states))]
+    return renumber(tuple(states), order)

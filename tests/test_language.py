@@ -1,6 +1,7 @@
 """The rules for the package's files that can be read off their lines: sizes, signs, imports."""
 
 import ast
+import builtins
 import unittest
 from pathlib import Path
 
@@ -59,6 +60,21 @@ class Files(unittest.TestCase):
             for node in ast.walk(tree):
                 if isinstance(node, ast.ImportFrom):
                     self.assertTrue({alias.name for alias in node.names} <= used, (name, node.lineno))
+
+    def test_names_of_builtins_and_imports_are_not_assigned(self):
+        for name, text in self.texts.items():
+            tree = ast.parse(text)
+            taken = set(dir(builtins))
+            for node in tree.body:
+                if isinstance(node, ast.ImportFrom):
+                    taken |= {alias.name for alias in node.names}
+                elif isinstance(node, (ast.FunctionDef, ast.ClassDef)):
+                    taken.add(node.name)
+            for node in ast.walk(tree):
+                if isinstance(node, ast.arg):
+                    self.assertNotIn(node.arg, taken, (name, node.lineno))
+                if isinstance(node, ast.Name) and isinstance(node.ctx, ast.Store):
+                    self.assertNotIn(node.id, taken, (name, node.lineno))
 
     def test_no_float_and_no_division(self):
         for name, text in self.texts.items():
