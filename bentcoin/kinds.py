@@ -1,6 +1,8 @@
-"""Whether any value is of a kind: an integer, a fraction, a polynomial, a pair of polynomials."""
+"""Whether any value is of a kind: an integer, a fraction, a polynomial, a word and the like."""
 
 from math import gcd
+
+MAX_LETTERS = 6
 
 
 def is_integer(value):
@@ -52,3 +54,10 @@ def is_rational_pair(value):
     if not is_tuple(value, 2) or not is_polynomial(value[0]) or not is_polynomial(value[1]):
         return False
     return value[1] != ()
+
+
+def is_word(value):
+    """Tell whether the value is a string of 1 to 6 letters a to z."""
+    if not isinstance(value, str) or not 1 <= len(value) <= MAX_LETTERS:
+        return False
+    return all(["a" <= sign <= "z" for sign in value])
