@@ -5,6 +5,9 @@ from math import gcd
 from bentcoin.packing import read_coefficients, value_at_power
 from bentcoin.polynomials import divide_exactly, trim_zeros
 
+# The number of bits beyond those of the coefficients that the first guess takes at most.
+MAX_ROOM = 100
+
 
 def integer_content(polynomial):
     """Return the greatest integer that divides all coefficients; 0 for ()."""
@@ -54,7 +57,8 @@ def divides(divisor, polynomial):
 def first_bits(one, other):
     """Return bits such that 2^bits is greater than twice any coefficient plus 2, with some room."""
     height = max(max([abs(c) for c in one]), max([abs(c) for c in other]))
-    return height.bit_length() + len(one) + len(other)
+    # The values of long polynomials at a large power take long; a guess that fails costs less.
+    return height.bit_length() + min(len(one) + len(other), MAX_ROOM)
 
 
 def guess_divisor(one, other, bits):
